@@ -1,0 +1,426 @@
+package core_test
+
+import (
+	"fmt"
+	"strings"
+	"testing"
+
+	"turnstile/api"
+	"turnstile/pin"
+)
+
+// block is a PIN in a block under a key, as a line has it.
+func block(t *testing.T, key, digits, pan string) string {
+	t.Helper()
+	b, e := pin.Seal(key, 0, digits, pan, "")
+	if e != api.OK {
+		t.Fatalf("the test's PIN makes no block: %d", e)
+	}
+	return "52=$" + sixteenths(b)
+}
+
+// TestTwice: a request with the key of one that waits; the key is the link, the class, and the fields 11, 7 and 41.
+func TestTwice(t *testing.T) {
+	p := played(t, config(), openShop, openTill, openBank, asks)
+	for _, s := range []string{"0200 2=4111111111111111 4=000000001250", "0201 2=4111111111111111 4=000000001250", "0200", "0200 2=4 38=123456"} {
+		p.plays(`
+			in shop ` + s + ` 7=1115115958 11=000010
+			! shop ErrTwice 0`)
+	}
+	p.plays(`
+		in shop 0200 2=4 7=1115115958 11=000010 41=terminal
+		> shop 0210 2=4 7=1115115958 11=000010 39=14 41=terminal
+		in shop 0200 2=4 7=1115115957 11=000010
+		> shop 0210 2=4 7=1115115957 11=000010 39=14
+		in shop 0200 2=4 7=1115115958 11=000011
+		> shop 0210 2=4 7=1115115958 11=000011 39=14
+		in shop 0200 2=4 11=000010
+		> shop 0210 2=4 11=000010 39=14
+		in shop 0100 2=4 7=1115115958 11=000010
+		> shop 0110 2=4 7=1115115958 11=000010 39=14
+		in till 0200 2=4 7=1115115958 11=000010
+		> till 0210 2=4 7=1115115958 11=000010 39=14
+		= waits shop>bank:2
+		in bank 0210 11=000002 39=51
+		> shop 0210 7=1115115958 11=000010 39=51
+		in shop 0200 2=4 7=1115115958 11=000010
+		> shop 0210 2=4 7=1115115958 11=000010 39=14`)
+}
+
+// TestDeclined: the codes of C7, each ahead of those behind it; none of these takes a number.
+func TestDeclined(t *testing.T) {
+	track := func(s string) string { return "35=" + s }
+	for _, x := range []struct{ fields, code string }{
+		{"", "14"},
+		{"2=4111111111111112 4=000000001250", "14"},
+		{"2=41111111111 4=000000001250", "14"},
+		{"2=411111111111 4=000000001250", "14"},
+		{"2=4111111111111112 14=2610", "14"},
+		{track("4111111111111112=30122011234") + " 4=000000001250", "14"},
+		{track("4111111111111111=301") + " 4=000000001250", "14"},
+		{"2=4111111111111112 4=000000001250 " + track("4111111111111111=30122011234"), "14"},
+		{"2=4111111111111111 4=000000001250 14=2610", "54"},
+		{"2=4111111111111111 4=000000001250 14=2513", "54"},
+		{"2=4111111111111111 4=000000001250 14=9913", "54"},
+		{"2=4111111111111111 4=000000001250 14=0000", "54"},
+		{"2=4111111111111111 14=2610", "54"},
+		{track("4111111111111111=26102011234") + " 4=000000001250", "54"},
+		{"14=2610 4=000000001250 " + track("4111111111111111=30122011234"), "54"},
+		{"2=5105105105105100 14=2610", "54"},
+		{"2=4111111111111111", "13"},
+		{"2=4111111111111111 14=2611", "13"},
+		{"2=6011111111111117", "13"},
+		{"2=6011111111111117 4=000000001250", "15"},
+		{"2=6011111111111117 4=000000001250 52=$0000000000000000", "15"},
+		{"2=3530111333300000 4=000000000000 14=2611", "15"},
+		{track("6011111111111117==201") + " 4=000000001250", "15"},
+		{"14=2611 4=000000001250 " + track("6011111111111117=26102011234"), "15"},
+	} {
+		fields := strings.Join(strings.Fields(x.fields), " ")
+		p := played(t, config(), openShop, openBank)
+		is := p.steps(p.event(strings.Fields("in shop 0200 7=1115115958 11=000010 " + fields)))
+		if len(is) != 1 || !strings.HasPrefix(is[0], "> shop 0210 ") || !strings.Contains(is[0]+" ", " 39="+x.code+" ") {
+			t.Errorf("C7: of a request with `%s` comes %q; must be %s", fields, is, x.code)
+		}
+		p.plays(`
+			= waits
+			= shop counts 1 0 1 0 0 0 0 0 0 0 0 0` + asks)
+	}
+}
+
+// TestExpiry: the month is the moment's own; in it the card is good.
+func TestExpiry(t *testing.T) {
+	c := config()
+	c.Start += 15*86400 + 43200 - 1 // the last second of November
+	played(t, c, openShop, `
+		in shop 0200 2=6011111111111117 4=000000001250 14=2611
+		> shop 0210 2=6011111111111117 4=000000001250 39=15
+		tick 1
+		in shop 0200 2=6011111111111117 4=000000001250 14=2611
+		> shop 0210 2=6011111111111117 4=000000001250 39=54
+		in shop 0200 35=6011111111111117=26112011234 4=000000001250
+		> shop 0210 4=000000001250 39=54
+		in shop 0200 35=6011111111111117=2612201 4=000000001250
+		> shop 0210 4=000000001250 39=15
+		in shop 0200 2=6011111111111117 35=6011111111111117=2611201 4=000000001250
+		> shop 0210 2=6011111111111117 4=000000001250 39=54
+		in shop 0200 2=6011111111111117 35=6011111111111117=2611201 4=000000001250 14=2612
+		> shop 0210 2=6011111111111117 4=000000001250 39=15`)
+}
+
+// TestReplyOfAnAnswer: it has the request's own fields.
+func TestReplyOfAnAnswer(t *testing.T) {
+	played(t, config(), openShop, `
+		in shop 0101 2=4111111111111112 3=000000 4=000000001250 7=1115115958 11=000010 12=120000 13=1115 14=2612 22=ABC 25=00 32=99 37=reference012 38=123456 39=77 41=terminal 42=fifteen.letters 48=0102AB 49=978 60=x 66=1 70=999
+		> shop 0110 2=4111111111111112 3=000000 4=000000001250 7=1115115958 11=000010 12=120000 13=1115 22=ABC 25=00 32=99 37=reference012 39=14 41=terminal 42=fifteen.letters 49=978 66=1 70=999`)
+}
+
+// TestGroups: that of the longest prefix; the first of its links that is ready.
+func TestGroups(t *testing.T) {
+	request := func(link, pan string, number int) string {
+		return fmt.Sprintf("\nin shop 0200 2=%s 4=000000000001 11=000010\n> %s 2=%s 4=000000000001 7=1115120000 11=%06d 32=7 37=631912%06d", pan, link, pan, number, number)
+	}
+	answer := func(in string, number int) string {
+		return fmt.Sprintf("\nin %s 11=%06d 39=91\n> shop 0210 11=000010 39=91", in, number)
+	}
+	played(t, config(), openShop, openBank, vaultAfterBank,
+		request("bank 0200", "4111111111111111", 3), answer("bank 0210", 3),
+		request("vault 1200", "4242424242424242", 4), answer("vault 1210", 4),
+		request("vault 1200", "5555555555554444", 5), answer("vault 1210", 5), `
+		down bank`,
+		request("vault 1200", "4111111111111111", 6), answer("vault 1210", 6), `
+		up bank
+		> bank 0800 7=1115120000 11=000007 70=001`,
+		request("vault 1200", "4111111111111111", 8), answer("vault 1210", 8), `
+		in bank 0810 39=00 70=001`,
+		request("bank 0200", "4111111111111111", 9), answer("bank 0210", 9), `
+		in vault 1800 70=002
+		> vault 1810 39=00 70=002
+		in shop 0200 2=4242424242424242 4=000000000101 11=000010
+		> shop 0210 2=4242424242424242 4=000000000101 11=000010 39=91`)
+}
+
+// TestTestedLinkIsReady: one that is asked whether it is there.
+func TestTestedLinkIsReady(t *testing.T) {
+	c := config()
+	c.Links[1].Echo = 1
+	played(t, c, openShop, openBank, `
+		tick 1
+		> bank 0800 7=1115120001 11=000002 70=301
+		in shop 0200 2=4111111111111111 4=000000000001 11=000010
+		> bank 0200 2=4111111111111111 4=000000000001 7=1115120001 11=000003 32=7 37=631912000003`)
+}
+
+// TestCardOfATrack: of a request without field 2.
+func TestCardOfATrack(t *testing.T) {
+	played(t, config(), openShop, openVault, `
+		in shop 0200 4=000000000001 11=000010 35=5555555555554444=30122011234
+		> vault 1200 4=000000000001 7=1115120000 11=000002 32=7 35=5555555555554444=30122011234 37=631912000002`)
+}
+
+// TestWhatGoesOut: the fields 7, 11, 32, 37 are the switch's own, whatever stood there; all else is the request's.
+func TestWhatGoesOut(t *testing.T) {
+	c := config()
+	c.Start += 3600*5 + 61
+	played(t, c, openShop, `
+		up bank
+		> bank 0800 7=1115170101 11=000001 70=001
+		in bank 0810 39=00 70=001
+		in shop 0100 2=4111111111111111 3=003000 4=000000001250 7=0101000000 11=999999 12=235959 13=1231 14=3012 22=ABC 25=99 32=12345678901 37=mine01234567 38=123456 39=77 41=terminal 42=fifteen.letters 48=0102AB1100 49=978 55=$9A03261115 60=text 66=1 70=999 90=012345678901234567890123456789012345678901
+		> bank 0100 2=4111111111111111 3=003000 4=000000001250 7=1115170101 11=000002 12=235959 13=1231 14=3012 22=ABC 25=99 32=7 37=631917000002 38=123456 39=77 41=terminal 42=fifteen.letters 48=0102AB1100 49=978 55=$9A03261115 60=text 66=1 70=999 90=012345678901234567890123456789012345678901`)
+}
+
+// TestPIN: it goes on under the other link's key.
+func TestPIN(t *testing.T) {
+	pan := "4111111111111111"
+	played(t, config(), openShop, openBank, `
+		in shop 0200 2=`+pan+` 4=000000001250 11=000010 `+block(t, shopPIN, "1234", pan)+`
+		> bank 0200 2=`+pan+` 4=000000001250 7=1115120000 11=000002 32=7 37=631912000002 `+block(t, bankPIN, "1234", pan)+`
+		in shop 0200 35=`+pan+`=30122011234 4=000000001250 11=000011 `+block(t, shopPIN, "123456789012", pan)+`
+		> bank 0200 4=000000001250 7=1115120000 11=000003 32=7 35=`+pan+`=30122011234 37=631912000003 `+block(t, bankPIN, "123456789012", pan)+`
+		in shop 0200 2=`+pan+` 4=000000001250 11=000012 `+block(t, bankPIN, "1234", pan)+`
+		> shop 0210 2=`+pan+` 4=000000001250 11=000012 39=55
+		in shop 0200 2=`+pan+` 4=000000001250 11=000012 `+block(t, shopPIN, "1234", "4111111111111129")+`
+		> shop 0210 2=`+pan+` 4=000000001250 11=000012 39=55
+		in shop 0200 2=`+pan+` 4=000000001250 11=000012 52=$0000000000000000
+		> shop 0210 2=`+pan+` 4=000000001250 11=000012 39=55
+		in shop 0200 2=411111111117 4=000000001250 11=000012 `+block(t, shopPIN, "1234", pan)+`
+		> shop 0210 2=411111111117 4=000000001250 11=000012 39=55
+		in shop 0200 2=`+pan+` 4=000000001250 11=000012
+		> bank 0200 2=`+pan+` 4=000000001250 7=1115120000 11=000008 32=7 37=631912000008`)
+}
+
+// TestPINOfOtherFormats: it is none of the format 0.
+func TestPINOfOtherFormats(t *testing.T) {
+	pan := "4111111111111111"
+	for format, fill := range map[int]string{1: "0123456789", 3: "AAAAAAAAAA"} {
+		b, _ := pin.Seal(shopPIN, format, "1234", pan, fill)
+		played(t, config(), openShop, openBank, `
+			in shop 0200 2=`+pan+` 4=000000001250 11=000010 52=$`+sixteenths(b)+`
+			> shop 0210 2=`+pan+` 4=000000001250 11=000010 39=55`)
+	}
+}
+
+// TestNoPINKey: of one of the two links; that is asked ahead of the PIN, and behind the number.
+func TestNoPINKey(t *testing.T) {
+	pan := "4111111111111111"
+	for _, link := range []int{0, 1} {
+		c := config()
+		c.Links[link].PIN = ""
+		c.Numbers = 3
+		played(t, c, openShop, openBank, `
+			in shop 0200 2=`+pan+` 4=000000001250 11=000010 `+block(t, shopPIN, "1234", pan)+`
+			> shop 0210 2=`+pan+` 4=000000001250 11=000010 39=81
+			in shop 0200 2=`+pan+` 4=000000001250 11=000010 52=$0000000000000000
+			> shop 0210 2=`+pan+` 4=000000001250 11=000010 39=81
+			in shop 0200 2=`+pan+` 4=000000001250 11=000010
+			> bank 0200 2=`+pan+` 4=000000001250 7=1115120000 11=000001 32=7 37=631912000001
+			in shop 0200 2=`+pan+` 4=000000001250 11=000011
+			> bank 0200 2=`+pan+` 4=000000001250 7=1115120000 11=000002 32=7 37=631912000002
+			in shop 0200 2=`+pan+` 4=000000001250 11=000012
+			> bank 0200 2=`+pan+` 4=000000001250 7=1115120000 11=000003 32=7 37=631912000003
+			in shop 0200 2=`+pan+` 4=000000001250 11=000013 52=$0000000000000000
+			> shop 0210 2=`+pan+` 4=000000001250 11=000013 39=96`)
+	}
+}
+
+// TestOtherLinksKeys do not matter.
+func TestOtherLinksKeys(t *testing.T) {
+	pan := "4111111111111111"
+	c := config()
+	c.Links[1].PIN, c.Links[3].PIN = "", bankPIN
+	played(t, c, openShop, openVault, `
+		in shop 0200 2=`+pan+` 4=000000001250 11=000010 `+block(t, shopPIN, "1234", pan)+`
+		> vault 1200 2=`+pan+` 4=000000001250 7=1115120000 11=000002 32=7 37=631912000002 `+block(t, bankPIN, "1234", pan))
+}
+
+// TestUnwritable: 30, behind the PIN; the number is free again, nothing waits.
+func TestUnwritable(t *testing.T) {
+	pan := "4111111111111111"
+	bends := []func(c *api.Config){
+		func(c *api.Config) { must(c, 2, "1200", 60) },
+		func(c *api.Config) { noRule(c, 2, "1200") },
+		func(c *api.Config) { c.Links[3].Most = 90 },
+	}
+	for i, bend := range bends {
+		c := config()
+		c.Numbers = 1
+		bend(&c)
+		p := played(t, c, openShop, `
+			up vault
+			> vault 1800 7=1115120000 11=000001 70=001
+			in vault 1810 39=00 70=001
+			in shop 0200 2=`+pan+` 4=000000001250 11=000010 41=terminal 52=$0000000000000000
+			> shop 0210 2=`+pan+` 4=000000001250 11=000010 39=81 41=terminal`)
+		for range 3 {
+			p.plays(`
+				in shop 0200 2=` + pan + ` 4=000000001250 11=000010 41=terminal
+				> shop 0210 2=` + pan + ` 4=000000001250 11=000010 39=30 41=terminal
+				= waits`)
+		}
+		if i == 0 {
+			p.plays(`
+				in shop 0200 2=` + pan + ` 4=000000001250 11=000010 60=x
+				> vault 1200 2=` + pan + ` 4=000000001250 7=1115120000 11=000001 32=7 37=631912000001 60=x`)
+		}
+	}
+}
+
+// TestFull: 96, behind all else that is asked; the number is free again.
+func TestFull(t *testing.T) {
+	c := config()
+	c.Pending, c.Numbers = 1, 2
+	must(&c, 0, "0200", 60)
+	played(t, c, openShop, openBank, `
+		in shop 0200 2=4111111111111111 4=000000001250 11=000010 60=x
+		> bank 0200 2=4111111111111111 4=000000001250 7=1115120000 11=000002 32=7 37=631912000002 60=x
+		in shop 0200 2=4111111111111111 4=000000001250 11=000011 60=x
+		> shop 0210 2=4111111111111111 4=000000001250 11=000011 39=96
+		in shop 0200 2=4111111111111111 4=000000001250 11=000011 52=$0000000000000000 60=x
+		> shop 0210 2=4111111111111111 4=000000001250 11=000011 39=55
+		in bank 0210 11=000002 39=00
+		> shop 0210 11=000010 39=00
+		in shop 0200 2=4111111111111111 4=000000001250 11=000011 60=x
+		> bank 0200 2=4111111111111111 4=000000001250 7=1115120000 11=000002 32=7 37=631912000002 60=x
+		= all now 0 pending 1 late 0`)
+}
+
+// TestRemembered: those that wait in vain do not stand in the way of others.
+func TestRemembered(t *testing.T) {
+	c := config()
+	c.Pending, c.Timeout, c.Queue = 1, 1, 10
+	p := played(t, c, openShop, openBank)
+	for i := range 4 {
+		p.plays(fmt.Sprintf(`
+			in shop 0200 2=4111111111111111 4=000000001250 11=000010
+			> bank 0200 2=4111111111111111 4=000000001250 7=111512000%d 11=%06d 32=7 37=631912%06d`, i, 2+2*i, 2+2*i))
+		p.steps(api.Event{Kind: api.EvTick, N: 1})
+		p.plays(fmt.Sprintf("= all now %d pending 0 late 1", i+1))
+	}
+}
+
+// TestNoNumber: 96, ahead of the PIN, behind the group and stand-in's own.
+func TestNoNumber(t *testing.T) {
+	c := config()
+	c.Numbers = 1
+	played(t, c, openShop, openBank, `
+		in shop 0200 2=4111111111111111 4=000000001250 11=000010
+		> bank 0200 2=4111111111111111 4=000000001250 7=1115120000 11=000001 32=7 37=631912000001
+		in shop 0200 2=4111111111111111 4=000000001250 11=000011 52=$0000000000000000
+		> shop 0210 2=4111111111111111 4=000000001250 11=000011 39=96
+		in shop 0200 2=6011111111111117 4=000000001250 11=000011
+		> shop 0210 2=6011111111111117 4=000000001250 11=000011 39=15
+		in shop 0200 2=5555555555554444 4=000000000101 11=000011 52=$0000000000000000
+		> shop 0210 2=5555555555554444 4=000000000101 11=000011 39=91
+		in shop 0200 2=5555555555554444 4=000000000101 11=000011
+		> shop 0210 2=5555555555554444 4=000000000101 11=000011 39=96
+		in bank 0210 11=000001 39=00
+		> shop 0210 11=000010 39=00
+		in shop 0200 2=5555555555554444 4=000000000101 11=000011
+		> shop 0210 2=5555555555554444 4=000000000101 11=000011 39=91
+		in shop 0200 2=5555555555554444 4=000000000100 11=000011
+		> shop 0210 2=5555555555554444 4=000000000100 11=000011 38=000001 39=00`)
+}
+
+// TestStandIn: what is approved, and what is told of it later.
+func TestStandIn(t *testing.T) {
+	p := played(t, config(), openShop, `
+		in shop 0101 2=4111111111111111 4=000000005000 7=1115115958 11=000010 37=reference012 38=abcdef 39=77 41=terminal 55=$9A03261115
+		> shop 0110 2=4111111111111111 4=000000005000 7=1115115958 11=000010 37=reference012 38=000001 39=00 41=terminal
+		in shop 0200 2=4111111111111111 4=000000003001 11=000011
+		> shop 0210 2=4111111111111111 4=000000003001 11=000011 39=91
+		in shop 0200 2=4111111111111111 4=000000003000 11=000011
+		> shop 0210 2=4111111111111111 4=000000003000 11=000011 38=000003 39=00
+		in shop 0200 2=4111111111111111 4=000000000000 11=000012
+		> shop 0210 2=4111111111111111 4=000000000000 11=000012 39=91
+		= bank queue 0120:1 0220:3
+		= vault queue
+		= all now 0 pending 0 late 0
+		= shop counts 4 2 2 0 0 0 2 0 0 0 8000 0`)
+	p.queued("bank", 0, "0120 2=4111111111111111 4=000000005000 7=1115120000 11=000001 32=7 37=631912000001 38=000001 39=00 41=terminal 55=$9A03261115")
+	p.queued("bank", 1, "0220 2=4111111111111111 4=000000003000 7=1115120000 11=000003 32=7 37=631912000003 38=000003 39=00")
+	p.plays(`
+		in shop 0101 2=4111111111111111 4=000000005000 7=1115115958 11=000010 52=$0000000000000000
+		> shop 0110 2=4111111111111111 4=000000005000 7=1115115958 11=000010 39=91
+		up bank
+		> bank 0800 7=1115120000 11=000005 70=001
+		in bank 0810 39=00 70=001
+		> bank 0120 2=4111111111111111 4=000000005000 7=1115120000 11=000001 32=7 37=631912000001 38=000001 39=00 41=terminal 55=$9A03261115
+		in bank 0130 11=000001 39=00
+		> bank 0220 2=4111111111111111 4=000000003000 7=1115120000 11=000003 32=7 37=631912000003 38=000003 39=00
+		in bank 0230 11=000003 39=00
+		= bank queue`)
+}
+
+// TestStandInWindow: approvals count for so many ticks.
+func TestStandInWindow(t *testing.T) {
+	played(t, config(), openShop, `
+		tick 3
+		in shop 0200 2=5555555555554444 4=000000000100 11=000010
+		> shop 0210 2=5555555555554444 4=000000000100 11=000010 38=000001 39=00
+		tick 9
+		in shop 0200 2=5555555555554444 4=000000000100 11=000011
+		> shop 0210 2=5555555555554444 4=000000000100 11=000011 39=91
+		in shop 0200 2=4242424242424242 4=000000000100 11=000011
+		> shop 0210 2=4242424242424242 4=000000000100 11=000011 38=000003 39=00
+		tick 1
+		in shop 0200 2=4242424242424242 4=000000000100 11=000012
+		> shop 0210 2=4242424242424242 4=000000000100 11=000012 39=91
+		up vault
+		> vault 1800 7=1115120013 11=000005 70=001
+		in vault 1810 39=00 70=001
+		> vault 1220 2=5555555555554444 4=000000000100 7=1115120003 11=000001 32=7 37=631912000001 38=000001 39=00
+		in vault 1230 11=000001 39=00
+		> vault 1220 2=4242424242424242 4=000000000100 7=1115120012 11=000003 32=7 37=631912000003 38=000003 39=00
+		in vault 1230 11=000003 39=00
+		down vault
+		in shop 0200 2=5555555555554444 4=000000000100 11=000012
+		> shop 0210 2=5555555555554444 4=000000000100 11=000012 38=000006 39=00`)
+}
+
+// TestStandInQueueFull: 91; the approval does not count, the number is free.
+func TestStandInQueueFull(t *testing.T) {
+	c := config()
+	c.Queue, c.Numbers = 1, 2
+	played(t, c, openShop, `
+		in shop 0200 2=4111111111111111 4=000000001000 11=000010
+		> shop 0210 2=4111111111111111 4=000000001000 11=000010 38=000001 39=00
+		in shop 0200 2=4111111111111111 4=000000001000 11=000011
+		> shop 0210 2=4111111111111111 4=000000001000 11=000011 39=91
+		in shop 0200 2=4111111111111111 4=000000001000 11=000012
+		> shop 0210 2=4111111111111111 4=000000001000 11=000012 39=91
+		= bank queue 0220:1
+		up bank
+		> bank 0800 7=1115120000 11=000002 70=001
+		in bank 0810 39=00 70=001
+		> bank 0220 2=4111111111111111 4=000000001000 7=1115120000 11=000001 32=7 37=631912000001 38=000001 39=00
+		in bank 0230 11=000001 39=00
+		down bank
+		in shop 0200 2=4111111111111111 4=000000001000 11=000012
+		> shop 0210 2=4111111111111111 4=000000001000 11=000012 38=000001 39=00
+		= shop counts 4 2 2 0 0 0 2 0 0 0 2000 0`)
+}
+
+// TestStandInCards: so many are remembered; the one whose last approval is oldest is forgotten.
+func TestStandInCards(t *testing.T) {
+	c := config()
+	c.Cards, c.Queue = 1, 10
+	played(t, c, openShop, `
+		in shop 0200 2=5555555555554444 4=000000000100 11=000010
+		> shop 0210 2=5555555555554444 4=000000000100 11=000010 38=000001 39=00
+		in shop 0200 2=5555555555554444 4=000000000001 11=000011
+		> shop 0210 2=5555555555554444 4=000000000001 11=000011 39=91
+		in shop 0200 2=4242424242424242 4=000000000100 11=000012
+		> shop 0210 2=4242424242424242 4=000000000100 11=000012 38=000003 39=00
+		in shop 0200 2=5555555555554444 4=000000000100 11=000011
+		> shop 0210 2=5555555555554444 4=000000000100 11=000011 38=000004 39=00`)
+}
+
+// TestStandInOfATrack: the card is that of the track.
+func TestStandInOfATrack(t *testing.T) {
+	played(t, config(), openShop, `
+		in shop 0200 4=000000000100 11=000010 35=5555555555554444=30122011234
+		> shop 0210 4=000000000100 11=000010 38=000001 39=00
+		in shop 0200 2=5555555555554444 4=000000000100 11=000011
+		> shop 0210 2=5555555555554444 4=000000000100 11=000011 39=91`)
+}
