@@ -324,6 +324,27 @@ func TestEachWord(t *testing.T) {
 	}
 }
 
+// TestEachByteOfWords: of words of each kind, against the second reading.
+func TestEachByteOfWords(t *testing.T) {
+	for _, x := range []struct{ from, ahead, behind string }{
+		{"link shop", "link sh", "p"}, {"link shop", "link ", ""}, {"999 7", "999 ", ""}, {"999 7", "999 7", "7"}, {"route 4", "route 4", "4"}, {"rule 0200", "rule 02", "0"}, {"rule 0200", "rule ", "200"},
+		{"wait 0 2", "wait 0 2", "2"}, {"wait 0 2", "wait 0 ", ""}, {"wait 0 2", "wait 0 ", "2"}, {"pin 00", "pin 0", ""}, {"pin 00", "pin ", "0"}, {"CDEF -", "CDEF ", ""}, {"12:00:00", "12:00:0", ""}, {"12:00:00", "12", "00:00"},
+		{"2026-11", "2026", "11"}, {"2026-11", "202", "-11"}, {"2026-11", "2026-", "1"}, {"field 3 n", "field 3 ", ""}, {"fixed 6", "fixe", " 6"}, {"issuer", "issue", ""}, {"bank issuer two two", "bank issuer two tw", ""},
+	} {
+		for b := range 256 {
+			text := changed(t, short, x.from, x.ahead+string([]byte{byte(b)})+x.behind)
+			holds(t, fmt.Sprintf("the byte %d behind `%s`", b, x.ahead), text)
+			runsAs(t, text+"go\n")
+		}
+	}
+	for _, x := range [][2]string{{"up sho", ""}, {"up ", "hop"}, {"tick ", ""}, {"tick 1", "1"}, {"bytes shop 0", ""}, {"bytes shop ", "0"}, {"send shop 020", ""}, {"send shop ", "200"}, {"send shop 0200 ", "=1"}, {"send shop 0200 1", "=1"}, {"send shop 0200 1", "1"},
+		{"send shop 0200 2=", ""}, {"send shop 0200 2=4", "4"}, {"send shop 0200 2=$4", ""}, {"send shop 0200 2=$", "4"}, {"send shop 0200 2=$41", "41"}, {"key shop ", "0"}, {"key shop 0", ""}, {"vie", ""}, {"view", ""}} {
+		for b := range 256 {
+			runsAs(t, head+"up shop\n"+x[0]+string([]byte{byte(b)})+x[1])
+		}
+	}
+}
+
 // TestMixedLines: lines that are moved, left out, said again and changed, against the second reading.
 func TestMixedLines(t *testing.T) {
 	r := rand.New(rand.NewSource(2501))

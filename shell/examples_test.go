@@ -1,6 +1,7 @@
 package shell_test
 
 import (
+	"os"
 	"strings"
 	"testing"
 
@@ -8,6 +9,22 @@ import (
 )
 
 // The chapter's examples, and the document's (1 to 10), as the shell tells them.
+
+// TestReadme: the script in README.md tells what stands behind it there.
+func TestReadme(t *testing.T) {
+	b, err := os.ReadFile("../README.md")
+	if err != nil {
+		t.Fatal(err)
+	}
+	blocks := strings.Split(string(b), "```\n")
+	for i, s := range blocks {
+		if strings.HasSuffix(s, "\ntells\n\n") {
+			tells(t, runs(t, blocks[i-1]), blocks[i+1])
+			return
+		}
+	}
+	t.Error("README.md has no script")
+}
 
 func TestChapterOne(t *testing.T) {
 	text := printed(config())

@@ -12,7 +12,12 @@ import (
 
 func TestOtherStack(t *testing.T) {
 	if otherThan(core.Tree) != core.Scan || otherThan(core.Scan) != core.Tree {
-		t.Error("S5: a journal is not played by the other stack")
+		t.Error("S4: a journal is not played by the other stack")
+	}
+	for _, stack := range []int{core.Tree, core.Scan} {
+		if newPlayer(smallConfig(), stack).stack != stack {
+			t.Error("S4: which stack a script is played with is not known")
+		}
 	}
 }
 

@@ -41,9 +41,9 @@ func (l *line) must(ok bool) {
 // isRight tells whether all of the line was taken, and as it was wanted.
 func (l *line) isRight() bool { return !l.wrong && len(l.left) == 0 }
 
+// word is empty, if none is left; no line wants such a word.
 func (l *line) word() string {
 	if len(l.left) == 0 {
-		l.wrong = true
 		return ""
 	}
 	w := l.left[0]

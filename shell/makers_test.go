@@ -8,6 +8,7 @@ import (
 	"strconv"
 	"strings"
 	"testing"
+	"time"
 
 	"turnstile/api"
 	"turnstile/core"
@@ -154,6 +155,11 @@ var (
 )
 
 func sixteenths(b string) string { return strings.ToUpper(hex.EncodeToString([]byte(b))) }
+
+// momentText is a moment as a text, by the library's calendar.
+func momentText(moment int) string {
+	return time.Date(2000, 1, 1, 0, 0, moment, 0, time.UTC).Format("2006-01-02 15:04:05")
+}
 
 // printed is a configuration's text, written after the chapter a second time.
 func printed(c api.Config) string {
