@@ -110,6 +110,18 @@ func TestWrongCommands(t *testing.T) {
 	}
 }
 
+// TestWordsThatAreNotThere: what is not said is nobody's name.
+func TestWordsThatAreNotThere(t *testing.T) {
+	text := strings.NewReplacer("one", "x", "shop", "x", "gold", "x").Replace(head)
+	for _, line := range []string{"up", "down", "queued", "bytes", "key", "send", "tick", "send x", "key x", "bytes x"} {
+		stops(t, line, text+line, api.ErrScript, goLine+1)
+	}
+	for line, without := range map[string]string{"route 4 x": "route 4", "group x 5000 2 8000 60 bank": "group x 5000 2 8000 60", "link x acquirer x four 999 7": "link x acquirer x four 999", "pin 00112233445566778899AABBCCDDEEFF": "pin"} {
+		refuses(t, without, changed(t, strings.TrimSuffix(text, "go\n"), line, without), api.ErrScript, lineOf(t, text, line))
+	}
+	tells(t, runs(t, text+"up x\ndown x\n"), "")
+}
+
 // TestRightCommands: such as may be, though nothing may come of them.
 func TestRightCommands(t *testing.T) {
 	for _, x := range []struct{ line, want string }{
